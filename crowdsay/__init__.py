@@ -1,0 +1,1 @@
+"""Crowdsay: sentences of counts made into customs by which crowds of any size say them."""

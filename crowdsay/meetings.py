@@ -1,0 +1,37 @@
+"""Meetings: which rows of a custom can be done in a crowd, and what comes by them."""
+
+from crowdsay.errors import NoMeeting
+
+
+def _is_doable(custom, crowd, number):
+    a, b = custom.steps[number][:2]
+    if a == b:
+        return crowd[a] > 1
+    return crowd[a] > 0 and crowd[b] > 0
+
+
+def can_be_done(custom, crowd):
+    """Tell the numbers of the rows that can be done in the crowd, rising."""
+    return [number for number in range(len(custom.rows)) if _is_doable(custom, crowd, number)]
+
+
+def behind(custom, crowd, number):
+    """Tell the crowd behind a row that can be done."""
+    a, b, c, d = custom.steps[number]
+    counts = list(crowd)
+    counts[a] -= 1
+    counts[b] -= 1
+    counts[c] += 1
+    counts[d] += 1
+    return tuple(counts)
+
+
+def trail(custom, crowd, numbers):
+    """Tell the crowds that come by these rows one behind the other, the first crowd ahead."""
+    crowds = [crowd]
+    for place, number in enumerate(numbers):
+        is_row = 0 <= number < len(custom.rows)
+        if not is_row or not _is_doable(custom, crowds[-1], number):
+            raise NoMeeting(place)
+        crowds.append(behind(custom, crowds[-1], number))
+    return crowds
