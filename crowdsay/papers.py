@@ -3,15 +3,8 @@
 from crowdsay.comings import MOST_CROWDS, spread, way_to
 from crowdsay.errors import NoMeeting, TooMany
 from crowdsay.meetings import behind, can_be_done, trail
-from crowdsay.rounds import agrees, all_agree, rounds_within, steps_to
+from crowdsay.rounds import agrees, all_agree, rounds_within, steps_to, sure_places
 from crowdsay.wholes import are_wholes, is_whole
-
-
-def sure_places(custom, crowds, leads, word):
-    """Tell the places of the crowds of a spread that are sure of the word."""
-    others = [place for place, crowd in enumerate(crowds) if agrees(custom, crowd) != word]
-    unsure = steps_to(leads, others)
-    return [place for place in range(len(crowds)) if place not in unsure]
 
 
 def _ranks(custom, crowds, leads, word):

@@ -63,7 +63,7 @@ def _groups_of(ends):
 
 
 def _does_lead_out(ends, group):
-    within = set(group)
+    within = {place: True for place in group}
     return any([end not in within for place in group for end in ends[place]])
 
 
@@ -108,6 +108,13 @@ def all_agree(custom, crowds):
     """Tell "yes" or "no" where all of the crowds agree on it, else None."""
     words = [agrees(custom, crowd) for crowd in crowds]
     return words[0] if all([word == words[0] for word in words]) else None
+
+
+def sure_places(custom, crowds, leads, word):
+    """Tell the places of the crowds of a spread that are sure of the word."""
+    others = [place for place, crowd in enumerate(crowds) if agrees(custom, crowd) != word]
+    unsure = steps_to(leads, others)
+    return [place for place in range(len(crowds)) if place not in unsure]
 
 
 def says(custom, crowd):

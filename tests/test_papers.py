@@ -208,7 +208,8 @@ class IsPaperTest(unittest.TestCase):
         deep = ()
         for _ in range(7):
             deep = (deep,)
-        for thing in (*NOT_PAPERS, deep, ("yes", deep), ("split", [deep]), list(range(2000)), ("split", [([], [])] * 500)):
+        great = (list(range(2000)), ("split", [([], [])] * 500), ("split", [([0] * 900, [(3, 0)] * 300)]))
+        for thing in (*NOT_PAPERS, *great, deep, ("yes", deep), ("split", [deep])):
             for custom, crowd in ((FEW, (2, 1)), (SWING, (3, 0)), (ONE_OF_EACH, ALL_Z), (FEW, (1, 0))):
                 self.wrong(custom, crowd, thing)
 
@@ -352,7 +353,8 @@ class IsPaperTest(unittest.TestCase):
             [(1, 2), (2, 1)], [(2, 1), (3, 0)], [(3, 0)], [(1, 2), (3, 0)], [(2, 1), (1, 2), (3, 0)],
             [(3, 0), (2, 1), (1, 2)], [(1, 2), (2, 1), (2, 1), (3, 0)], [(1, 2), (2, 1), (3, 0), (3, 0)],
             [(0, 3), (1, 2), (2, 1), (3, 0)], [(1, 2), (2, 1), (3, 0), (4, 0)], [], [()], [(3,)], [(3, 0, 0)],
-            ((1, 2), (2, 1), (3, 0)), [[1, 2], [2, 1], [3, 0]], [(1, 2), [2, 1], (3, 0)], {(1, 2): 0}, None, 3, "", True,
+            ((1, 2), (2, 1), (3, 0)), [[1, 2], [2, 1], [3, 0]], [(1, 2), [2, 1], (3, 0)], {(1, 2): 0}, None, 3, "",
+            True,
             [None], [3], ["30"], [(1, 2), None, (3, 0)], [(1, 2), (2, 1), (3, "0")], [(1, 2), (2, 1), (3, 0), ()],
         ):
             self.wrong(SWING, (3, 0), ("split", [([], a_round)]))
