@@ -41,10 +41,10 @@ def _between(crowds, round_numbers):
 
 
 def _visits(moves, between, pairs):
-    """Tell by place in the mean how many meetings begin in each crowd between, a share.
+    """Tell by place how many meetings in the mean begin in each of the crowds between, a share.
 
-    So many as begin there and change something are led there, and one more begins in the first crowd; all times
-    the pairs, so that these are whole numbers."""
+    As many lead out of each as lead into it, and one more out of the first crowd: by pairs, so that all numbers of
+    what is to be solved are whole."""
     rows = []
     for end in between:
         row = [-moves[start].get(end, 0) for start in between]

@@ -21,7 +21,7 @@ def _add_ways(sentence, is_so, ways):
 
 
 def _lows(sentence):
-    """Tell as (by, weight, more) where the last number, y, begins to do: by times y is weight times n and more."""
+    """Tell as (by, weight, more) where a last number y may begin to do: by times y is weight times n, and more."""
     ways = {}
     _add_ways(sentence, True, ways)
     lows = [(1, 0, 0)]
@@ -38,7 +38,7 @@ def _lows(sentence):
 def _lines(lows, period):
     """Tell by direction (by, weight) the lines, each by its number more, on which there is a least y that does.
 
-    From a y that does a period's steps down lead to one that doesn't, and so to below where something begins."""
+    A period below the least y that does is one that doesn't: between the two something begins."""
     lines = {}
     for by, weight, more in lows:
         part = gcd(by, weight)
@@ -69,11 +69,13 @@ def _reach(leaves, direction, starts):
 
 
 def _text_of(bits, many):
+    # The lowest bit, of the first count, stands first.
     digits = f"{bits:b}"
     return digits[::-1].ljust(many, "0")
 
 
 def _flags_of(sentence, direction, starts, many):
+    # Block by block, so that no number gets very long; the n of lines that leave unlike rests by by are apart.
     by = direction[0]
     classes = [""] * by
     for begin in range(0, many, _BLOCK):

@@ -338,7 +338,11 @@ class PlainlyTest(QuestionTest):
                 self.assertIs(is_so(told, (n,)), are)
             told = plainly(("all", either(("least", (3, -2), bound), ("rest", (0, 1), 3, 0))))
             self.assertIs(is_so(told, (bound,)), False)
-            told = plainly(("some", both(both(("least", (2, -3), -1), ("least", (-2, 3), 1)), ("least", (1, 1), bound))))
+
+    def test_bounds_far_out_along_a_line_that_rises(self):
+        for bound in (1000, 3000, 9000, 12000):
+            told = plainly(("some", both(just(2, -3, worth=-1), ("least", (1, 1), bound))))
+            self.is_well_made(told, 1)
             for n in (0, 1, *range(bound // 2, bound), 2 * bound, MILLION):
                 self.assertIs(is_so(told, (n,)), n % 3 == 1 and n + (2 * n + 1) // 3 >= bound)
 
