@@ -9,7 +9,8 @@ _LONGEST_WORD = 8
 _MOST_GATES = 3
 
 
-def _is_word(thing):
+def is_word(thing):
+    """Tell whether the thing, whatever it is, is a word: a text of one to eight small letters."""
     if not isinstance(thing, str) or not 1 <= len(thing) <= _LONGEST_WORD:
         return False
     return all(["a" <= letter <= "z" for letter in thing])
@@ -18,7 +19,7 @@ def _is_word(thing):
 def _are_words(thing, fewest, most):
     if not isinstance(thing, tuple) or not fewest <= len(thing) <= most:
         return False
-    return all([_is_word(part) for part in thing])
+    return all([is_word(part) for part in thing])
 
 
 def _are_tuples_of_words(thing, fewest, most, length):
