@@ -3,13 +3,6 @@
 from crowdsay.errors import NoMeeting
 
 
-def _is_doable(custom, crowd, number):
-    a, b = custom.steps[number][:2]
-    if a == b:
-        return crowd[a] > 1
-    return crowd[a] > 0 and crowd[b] > 0
-
-
 def can_be_done(custom, crowd):
     """Tell the numbers of the rows that can be done in the crowd, rising."""
     # Told without a call for each row: of one custom the rows of very many crowds are asked for.
@@ -35,8 +28,7 @@ def trail(custom, crowd, numbers):
     """Tell the crowds that come by these rows one behind the other, the first crowd ahead."""
     crowds = [crowd]
     for place, number in enumerate(numbers):
-        is_row = 0 <= number < len(custom.rows)
-        if not is_row or not _is_doable(custom, crowds[-1], number):
+        if number not in can_be_done(custom, crowds[-1]):
             raise NoMeeting(place)
         crowds.append(behind(custom, crowds[-1], number))
     return crowds

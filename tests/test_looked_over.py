@@ -89,6 +89,8 @@ class OddTest(unittest.TestCase):
             self.with_layers(([3, 0], (1, 1, 0, 0)), ([1], (1, 1, 0, 0)), second, third),
             self.with_layers(([1, 0, 3], (7, 7, 0, 0)), ([2], (0, 0, 3, 0)), ([4], (0, 0, 0, 10 ** 59))),
             self.with_layers(([0, 1, 3, 2], (2, 2, 1, 0)), third),
+            # Even where it is told twice a row is in just one layer.
+            self.with_layers(([0, 1, 3, 0], (1, 1, 0, 0)), second, third),
             self.with_layers(([0, 1, 3, 4], (2, 2, 0, 1)), second),
             self.with_lots(("odd", "even"), ("odd", "even")),
             self.with_lots(("odd", "even", "n", "y"), ("odd", "even", "n"), ("odd", "even")),

@@ -135,7 +135,9 @@ class TrailTest(unittest.TestCase):
         self.refused_at(0, (1, 0, 0), [0, 0, 0])
         self.refused_at(0, (2, 0, 0), [3, 0])
         self.refused_at(0, (0, 1, 0), [1])
+        self.refused_at(0, (1, 0, 0), [1])
         self.refused_at(0, (1, 0, 1), [2])
+        self.refused_at(0, (0, 1, 0), [2])
 
     def test_a_middle_one_that_cannot_be_done(self):
         self.refused_at(1, (2, 0, 0), [0, 0, 1])

@@ -154,20 +154,32 @@ class PaperForTest(TestCase):
     def test_refused_as_the_custom_is(self):
         refused = {60: 0, 4000: 0}
         for sentence in sentences(23, 700):
-            try:
-                made_for(sentence)
-                is_made = True
-            except TooMany:
-                is_made = False
-            try:
-                paper_for(sentence)
-            except TooMany as error:
-                self.assertEqual(error.most, MOST_CHOICES if is_made else 60)
-                self.assertGreater(most_kinds_for(sentence), 60)
-                refused[error.most] += 1
+            most = self.refused_with(paper_for, sentence)
+            if self.refused_with(made_for, sentence) == 60:
+                self.assertEqual(most, 60)
             else:
-                self.assertTrue(is_made)
+                self.assertIn(most, (None, MOST_CHOICES))
+            if most is not None:
+                self.assertGreater(most_kinds_for(sentence), 60)
+                refused[most] += 1
         self.assertGreater(min(refused.values()), 5)
+
+    def test_refused_as_the_custom_is_ahead_of_all_else(self):
+        # Already a part of it would have too many choices.
+        many = 0
+        for part in sentences(24, 400):
+            whole = ("and", part, ("least", (3, -2, 1)[:len(leaves_of(part)[0][1])], 4))
+            if self.refused_with(made_for, whole) == 60:
+                self.assertEqual(self.refused_with(paper_for, whole), 60)
+                many += self.refused_with(paper_for, part) == MOST_CHOICES
+        self.assertGreater(many, 2)
+
+    def refused_with(self, ask, sentence):
+        try:
+            ask(sentence)
+        except TooMany as error:
+            return error.most
+        return None
 
     def test_what_is_told_is_the_askers_own(self):
         for sentence in (("least", (1, -1), 1), ("rest", (1,), 3, 2), ("not", ("rest", (1,), 2, 0)),
