@@ -13,9 +13,10 @@ def _is_lot(custom, thing):
 
 def _is_kept_up(custom, lot):
     """Tell whether somebody of the lot comes by each gate, and none of its kinds goes but for one that comes."""
-    if not all([kind in lot for _, kind in custom.gates]):
+    within = {kind: True for kind in lot}
+    if not all([kind in within for _, kind in custom.gates]):
         return False
-    return all([c in lot or d in lot or not (a in lot or b in lot) for a, b, c, d in custom.rows])
+    return all([c in within or d in within or not (a in within or b in within) for a, b, c, d in custom.rows])
 
 
 def are_lots(custom, thing):
